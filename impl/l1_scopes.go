@@ -341,20 +341,25 @@ func cutField(text, label string) (string, string, bool) {
 }
 
 func readLevel(digits string) (int64, bool) {
-	if digits == "" || len(digits) > levelDigits {
+	if len(digits) > 1 && digits[0] == '0' {
 		return 0, false
 	}
-	if digits[0] == '0' && digits != "0" {
+	return readDigits(digits, levelDigits)
+}
+
+// readDigits needs a bound of digits that is small enough for an int64.
+func readDigits(digits string, most int) (int64, bool) {
+	if digits == "" || len(digits) > most {
 		return 0, false
 	}
-	var level int64
+	var num int64
 	for i := range len(digits) {
 		if !isDigit(digits[i]) {
 			return 0, false
 		}
-		level = level*10 + int64(digits[i]-'0')
+		num = num*10 + int64(digits[i]-'0')
 	}
-	return level, true
+	return num, true
 }
 
 // readList takes the empty text apart from the others, since cutting it at
